@@ -1,0 +1,163 @@
+"""Some rules of the language subset that can be read off the files, so that a slip is seen early."""
+
+import ast
+import builtins
+import pathlib
+import re
+import unittest
+
+PACKAGE = pathlib.Path(__file__).resolve().parent.parent / "twoeach"
+FILES = sorted(PACKAGE.rglob("*.py"))
+
+INTERFACE = {
+    "errors": ["LineError", "MissingError", "StateError", "LimitError", "TooMany"],
+    "basics": ["is_integer", "is_count", "is_name"],
+    "kinds": ["Kind"],
+}
+
+LIBRARY = {
+    "heapq": ["heappush", "heappop", "heapify", "heapreplace", "heappushpop"],
+    "math": ["gcd", "lcm", "isqrt", "comb", "perm", "factorial"],
+    "itertools": ["product", "combinations", "permutations"],
+}
+
+BUILTINS = """len range enumerate zip min max sum abs sorted reversed int str bool bytes list tuple dict set frozenset
+    isinstance ord repr any all divmod map iter next property staticmethod classmethod super Exception ValueError
+    TypeError KeyError IndexError LookupError ZeroDivisionError ArithmeticError OverflowError RuntimeError
+    NotImplementedError AttributeError StopIteration NotImplemented""".split()
+
+BARRED = """type typing typing_extensions enum Enum IntEnum StrEnum Flag IntFlag Generic Protocol ABC ABCMeta namedtuple
+    NamedTuple TypedDict TYPE_CHECKING abstractmethod""".split()
+
+
+def trees():
+    for path in FILES:
+        yield path.name, ast.parse(path.read_text(encoding="utf-8"))
+
+
+def nodes(*wanted):
+    for name, tree in trees():
+        for node in ast.walk(tree):
+            if isinstance(node, wanted):
+                yield f"{name}:{getattr(node, 'lineno', 0)}", node
+
+
+def bound_names(tree):
+    found = []
+    for node in ast.walk(tree):
+        if isinstance(node, ast.arg):
+            found.append(node.arg)
+        elif isinstance(node, ast.Name) and not isinstance(node.ctx, ast.Load):
+            found.append(node.id)
+    return found
+
+
+class FilesTest(unittest.TestCase):
+
+    def test_only_python_files(self):
+        there = [path for path in PACKAGE.rglob("*") if path.is_file() and "__pycache__" not in path.parts]
+        self.assertEqual(sorted(there), FILES)
+        self.assertTrue((PACKAGE / "__init__.py").exists())
+        for path in FILES:
+            self.assertRegex(path.name, r"^[a-z_][a-z0-9_]*\.py$")
+
+    def test_characters_and_lengths(self):
+        for path in FILES:
+            text = path.read_bytes()
+            self.assertTrue(all(32 <= code <= 126 or code == 10 for code in text), path.name)
+            rows = text.decode("ascii").splitlines()
+            self.assertLess(len(rows), 400, path.name)
+            self.assertLessEqual(max([len(row) for row in rows], default=0), 120, path.name)
+
+    def test_functions_are_short(self):
+        for at, node in nodes(ast.FunctionDef):
+            self.assertLessEqual(node.end_lineno - node.lineno + 1, 40, at)
+
+    def test_the_interface_is_defined_in_its_files(self):
+        for file, names in INTERFACE.items():
+            tree = ast.parse((PACKAGE / f"{file}.py").read_text(encoding="utf-8"))
+            there = [node.name for node in tree.body if isinstance(node, (ast.FunctionDef, ast.ClassDef))]
+            for name in names:
+                self.assertIn(name, there)
+
+
+class NamesTest(unittest.TestCase):
+
+    def test_imports(self):
+        for at, node in nodes(ast.Import):
+            self.fail(at)
+        for at, node in nodes(ast.ImportFrom):
+            self.assertEqual(node.level, 0, at)
+            for alias in node.names:
+                if node.module in LIBRARY:
+                    self.assertIn(alias.name, LIBRARY[node.module], at)
+                    self.assertIsNone(alias.asname, at)
+                else:
+                    self.assertTrue(node.module.startswith("twoeach."), at)
+
+    def test_no_file_imports_from_one_that_imports_from_it(self):
+        uses = {}
+        for name, tree in trees():
+            uses[name[:-3]] = [node.module.partition(".")[2] for node in tree.body if isinstance(node, ast.ImportFrom)]
+        done = []
+        while len(done) < len(uses):
+            free = [name for name in uses if name not in done
+                    and all(used in done or used not in uses for used in uses[name])]
+            self.assertNotEqual(free, [])
+            done.extend(free)
+
+    def test_builtins(self):
+        for at, node in nodes(ast.Name):
+            if hasattr(builtins, node.id):
+                self.assertIn(node.id, BUILTINS, at)
+                self.assertIsInstance(node.ctx, ast.Load, at)
+
+    def test_no_name_is_bound_to_a_class_or_an_import_or_a_builtin(self):
+        for name, tree in trees():
+            taken = [node.name for node in tree.body if isinstance(node, ast.ClassDef)]
+            for node in tree.body:
+                if isinstance(node, ast.ImportFrom):
+                    taken.extend(alias.name for alias in node.names)
+            for bound in bound_names(tree):
+                self.assertFalse(bound in taken or hasattr(builtins, bound), f"{name}: {bound}")
+
+    def test_barred_words(self):
+        for at, node in nodes(ast.Name):
+            self.assertNotIn(node.id, BARRED, at)
+        for at, node in nodes(ast.Attribute):
+            self.assertNotIn(node.attr, BARRED, at)
+        for path in FILES:
+            self.assertIsNone(re.search("dataclass|overload|contextmanager|metaclass", path.read_text()), path.name)
+
+
+class ExpressionsTest(unittest.TestCase):
+
+    def test_literals(self):
+        for at, node in nodes(ast.Constant):
+            self.assertNotIsInstance(node.value, (float, complex), at)
+            if isinstance(node.value, str):
+                self.assertNotIn("%", node.value, at)
+
+    def test_what_does_not_occur(self):
+        barred = (ast.Div, ast.Global, ast.AsyncFunctionDef, ast.Await, ast.MatMult)
+        self.assertEqual([at for at, _ in nodes(*barred)], [])
+
+    def test_decorators(self):
+        for at, node in nodes(ast.FunctionDef, ast.ClassDef):
+            for decorator in node.decorator_list:
+                word = decorator.attr if isinstance(decorator, ast.Attribute) else decorator.id
+                self.assertIn(word, ["property", "staticmethod", "classmethod", "setter"], at)
+
+    def test_sorted_min_and_max_take_plain_numbers_and_strings(self):
+        # Kinds have an order that is none of sorting (L5 Operators); other values go through in_order.
+        plain = ("len", "int", "ord", "str", "repr", "range")
+        for at, node in nodes(ast.Call):
+            if isinstance(node.func, ast.Name) and node.func.id in ("sorted", "min", "max") and len(node.args) == 1:
+                inner = node.args[0]
+                inner = inner.elt if isinstance(inner, ast.ListComp) else inner
+                self.assertTrue(isinstance(inner, ast.Call) and isinstance(inner.func, ast.Name)
+                                and inner.func.id in plain, at)
+
+
+if __name__ == "__main__":
+    unittest.main()

@@ -1,0 +1,1 @@
+"""Twoeach: lines on boards of all sizes, and answers that spoil them."""
