@@ -13,6 +13,12 @@ INTERFACE = {
     "errors": ["LineError", "MissingError", "StateError", "LimitError", "TooMany"],
     "basics": ["is_integer", "is_count", "is_name"],
     "kinds": ["Kind"],
+    "pieces": ["Piece"],
+    "boxes": ["Box"],
+    "owners": ["is_paired", "owners", "is_owners", "lot_cells", "lot_lack", "greatest_lack", "least_lot", "greatest_lot",
+               "is_poor_lot"],
+    "choices": ["is_choice", "least_choice", "how_many_choices", "possible", "sure", "set_lack", "greatest_lack",
+                "least_set", "greatest_set", "is_poor_set"],
 }
 
 LIBRARY = {

@@ -1,0 +1,96 @@
+"""Which keys can have two of their things each, so that no two keys have the same thing.
+
+What the keys want is told by a dict from keys to lists of different things.
+"""
+
+SHARE = 2
+
+
+def handed_on(had, thing, reached, given):
+    """What is had when a thing is taken by the key that reached it, and each key gives what the next one reached."""
+    out = {other: had[other] for other in had}
+    while thing is not None:
+        key = reached[thing]
+        out[thing] = key
+        thing = given[key]
+    return out
+
+
+def had_more(wants, had, start):
+    """What is had if one key has one thing more and all others as many as before; None if that cannot be."""
+    reached = {}
+    given = {start: None}
+    queue = [start]
+    at = 0
+    while at < len(queue):
+        key = queue[at]
+        at += 1
+        for thing in [other for other in wants[key] if other not in reached]:
+            reached[thing] = key
+            if thing not in had:
+                return handed_on(had, thing, reached, given)
+            if had[thing] not in given:
+                given[had[thing]] = thing
+                queue.append(had[thing])
+    return None
+
+
+def most_had(wants):
+    """A dict from things to the keys that have them, at most two for each key, with as many things as there can be."""
+    had = {}
+    for key in wants:
+        for _ in range(SHARE):
+            more = had_more(wants, had, key)
+            if more is not None:
+                had = more
+    return had
+
+
+def shares(wants):
+    """A dict from all keys to the two things that they have, sorted as they are wanted; None if that cannot be."""
+    had = most_had(wants)
+    if len(had) < SHARE * len(wants):
+        return None
+    return {key: [thing for thing in wants[key] if had.get(thing) == key] for key in wants}
+
+
+def is_met(wants):
+    """Whether each key can have two things."""
+    return lacking(wants) == 0
+
+
+def lacking(wants):
+    """How many things are lacking: the greatest one of twice the keys less their things, of all sets of keys."""
+    return SHARE * len(wants) - len(most_had(wants))
+
+
+def least_lacking(wants):
+    """The least set of keys for which so many things are lacking, as a list."""
+    had = most_had(wants)
+    having = list(had.values())
+    queue = [key for key in wants if having.count(key) < SHARE]
+    found = {key: True for key in queue}
+    at = 0
+    # Who has a thing that a lacking key wants would lack as much if it gave it.
+    while at < len(queue):
+        for thing in wants[queue[at]]:
+            if had[thing] not in found:
+                found[had[thing]] = True
+                queue.append(had[thing])
+        at += 1
+    return [key for key in wants if key in found]
+
+
+def greatest_lacking(wants):
+    """The greatest set of keys for which so many things are lacking, as a list."""
+    had = most_had(wants)
+    rich = {}
+    changed = True
+    # A key that has, or by handing on gets, a thing that no one has would only lessen what is lacking.
+    while changed:
+        changed = False
+        for key in wants:
+            if key not in rich and any([thing not in had or had[thing] in rich for thing in wants[key]]):
+                rich[key] = True
+                changed = True
+    return [key for key in wants if key not in rich]
