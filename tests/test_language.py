@@ -19,6 +19,10 @@ INTERFACE = {
                "is_poor_lot"],
     "choices": ["is_choice", "least_choice", "how_many_choices", "possible", "sure", "set_lack", "greatest_lack",
                 "least_set", "greatest_set", "is_poor_set"],
+    "answers": ["Answers"],
+    "sizes": ["is_crowded", "crowded_sets", "square", "always_paired", "longest", "stairs", "least_strikes"],
+    "settled": ["Settled", "Owned", "Crowded", "CoreOwned", "settled"],
+    "plans": ["Plan"],
 }
 
 LIBRARY = {

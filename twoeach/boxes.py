@@ -1,8 +1,8 @@
 """Boxes of a piece: their cells and lines, which are reckoned and not listed, as sizes are up to 10 ** 30."""
 
 from twoeach.basics import is_count
-from twoeach.checks import check_cell, check_line, check_size
-from twoeach.errors import TooMany, UnknownKind, UnknownLine
+from twoeach.checks import check_cell, check_kind, check_line, check_size
+from twoeach.errors import TooMany, UnknownLine
 from twoeach.sorting import in_order
 
 MOST_LISTED_LINES = 200
@@ -85,8 +85,7 @@ class Box:
 
     def lines_of(self, kind):
         """How many lines of a kind it has."""
-        if kind not in self._piece:
-            raise UnknownKind(kind)
+        check_kind(self._piece, kind)
         columns, rows = self._rooms[kind]
         return columns * rows
 

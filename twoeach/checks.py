@@ -1,9 +1,12 @@
 """The errors that belong to parameters of certain names everywhere."""
 
 from twoeach.basics import is_integer, is_list
-from twoeach.errors import InvalidLines, InvalidNames, InvalidSet, InvalidSize, UnknownCell, UnknownLine
+from twoeach.errors import (
+    InvalidColumn, InvalidHeight, InvalidLines, InvalidNames, InvalidSet, InvalidSize, NotFlat, OtherPiece, UnknownCell,
+    UnknownKind, UnknownLine)
 
 GREATEST_SIZE = 10 ** 30
+GREATEST_HEIGHT = 3
 
 
 def is_size(value):
@@ -15,6 +18,36 @@ def check_size(value):
     """Raises InvalidSize unless a size."""
     if not is_size(value):
         raise InvalidSize(value)
+
+
+def check_height(value):
+    """Raises InvalidHeight unless an INTEGER from 1 to 3."""
+    if not is_integer(value) or not 1 <= value <= GREATEST_HEIGHT:
+        raise InvalidHeight(value)
+
+
+def check_column(value):
+    """Raises InvalidColumn unless an INTEGER."""
+    if not is_integer(value):
+        raise InvalidColumn(value)
+
+
+def check_kind(piece, kind):
+    """Raises UnknownKind unless the name of a kind of the piece."""
+    if kind not in piece:
+        raise UnknownKind(kind)
+
+
+def check_flat(piece):
+    """Raises NotFlat unless the piece is flat."""
+    if not piece.is_flat:
+        raise NotFlat(piece)
+
+
+def check_same_piece(piece, box):
+    """Raises OtherPiece unless the box is one of the piece."""
+    if box.piece != piece:
+        raise OtherPiece(piece, box.piece)
 
 
 def check_cell(box, cell):

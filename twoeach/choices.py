@@ -92,9 +92,14 @@ def sure(piece):
             if len(chosen[kind]) > 0 and all([entry in pair for pair in chosen[kind]])]
 
 
+def how_many_names(piece, kinds):
+    """The number of all names in the entries of some kinds."""
+    return len(set([name for kind in kinds for name in piece[kind].names()]))
+
+
 def lack_of(piece, kinds):
-    """Twice the number of some kinds less the number of all names in their entries."""
-    return 2 * len(kinds) - len(set([name for kind in kinds for name in piece[kind].names()]))
+    """Twice the number of some kinds less the number of their names."""
+    return 2 * len(kinds) - how_many_names(piece, kinds)
 
 
 def set_lack(piece, kinds):

@@ -6,18 +6,15 @@ What the keys want is told by a dict from keys to lists of different things.
 SHARE = 2
 
 
-def handed_on(had, thing, reached, given):
-    """What is had when a thing is taken by the key that reached it, and each key gives what the next one reached."""
-    out = {other: had[other] for other in had}
+def hand_on(had, thing, reached, given):
+    """Changes what is had: who reached a thing takes it, and gives one thing to who reached that one, and so on."""
     while thing is not None:
-        key = reached[thing]
-        out[thing] = key
-        thing = given[key]
-    return out
+        had[thing] = reached[thing]
+        thing = given[reached[thing]]
 
 
-def had_more(wants, had, start):
-    """What is had if one key has one thing more and all others as many as before; None if that cannot be."""
+def get_more(wants, had, start):
+    """Changes what is had so that one key has one thing more and all others as many as before; whether that can be."""
     reached = {}
     given = {start: None}
     queue = [start]
@@ -28,21 +25,24 @@ def had_more(wants, had, start):
         for thing in [other for other in wants[key] if other not in reached]:
             reached[thing] = key
             if thing not in had:
-                return handed_on(had, thing, reached, given)
+                hand_on(had, thing, reached, given)
+                return True
             if had[thing] not in given:
                 given[had[thing]] = thing
                 queue.append(had[thing])
-    return None
+    return False
+
+
+def get_shares(wants, had, keys):
+    """Changes what is had so that more keys have as many things as they can get; whether all have two."""
+    got = [get_more(wants, had, key) for key in keys for _ in range(SHARE)]
+    return all(got)
 
 
 def most_had(wants):
     """A dict from things to the keys that have them, at most two for each key, with as many things as there can be."""
     had = {}
-    for key in wants:
-        for _ in range(SHARE):
-            more = had_more(wants, had, key)
-            if more is not None:
-                had = more
+    get_shares(wants, had, list(wants))
     return had
 
 

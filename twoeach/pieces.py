@@ -1,9 +1,9 @@
 """Pieces: some names of cells and some kinds of lines, from which boxes of all sizes are grown."""
 
 from twoeach.basics import is_list, is_name
-from twoeach.checks import check_names_among
+from twoeach.checks import check_kind, check_names_among
 from twoeach.errors import (
-    InvalidKinds, InvalidNames, InvalidRenaming, KindTaken, SameKinds, TooMany, UnknownKind, UnknownName)
+    InvalidKinds, InvalidNames, InvalidRenaming, KindTaken, SameKinds, TooMany, UnknownName)
 from twoeach.kinds import Kind, is_renaming
 from twoeach.renamings import least_renaming
 from twoeach.sorting import in_order
@@ -143,8 +143,7 @@ class Piece:
         return is_name(x) and x in self._kinds
 
     def __getitem__(self, at):
-        if at not in self:
-            raise UnknownKind(at)
+        check_kind(self, at)
         return self._kinds[at]
 
     def __iter__(self):
@@ -165,8 +164,7 @@ class Piece:
 
     def __sub__(self, other):
         """The piece without the kind of a name."""
-        if other not in self:
-            raise UnknownKind(other)
+        check_kind(self, other)
         return Piece(self._names, {name: self._kinds[name] for name in self._kinds if name != other})
 
     def __or__(self, other):
