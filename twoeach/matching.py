@@ -35,8 +35,12 @@ def get_more(wants, had, start):
 
 def get_shares(wants, had, keys):
     """Changes what is had so that more keys have as many things as they can get; whether all have two."""
-    got = [get_more(wants, had, key) for key in keys for _ in range(SHARE)]
-    return all(got)
+    met = True
+    for key in keys:
+        for _ in range(SHARE):
+            if not get_more(wants, had, key):
+                met = False
+    return met
 
 
 def most_had(wants):
@@ -73,11 +77,12 @@ def least_lacking(wants):
     at = 0
     # Who has a thing that a lacking key wants would lack as much if it gave it.
     while at < len(queue):
-        for thing in wants[queue[at]]:
+        key = queue[at]
+        at += 1
+        for thing in wants[key]:
             if had[thing] not in found:
                 found[had[thing]] = True
                 queue.append(had[thing])
-        at += 1
     return [key for key in wants if key in found]
 
 
