@@ -70,3 +70,46 @@ def made_pieces(seed, many, **limits):
 def subsets(things):
     things = list(things)
     return [list(some) for many in range(len(things) + 1) for some in itertools.combinations(things, many)]
+
+
+FAR = 10 ** 30
+BIG = 123456789012345678901234567890
+
+
+def flat_kind(words):
+    """The flat kind of entries that are written as across and name, such as "0a 1b"."""
+    return Kind(*[(int(word[0]), 0, word[1:]) for word in words.split()])
+
+
+def flat_piece(names, **kinds):
+    """A flat piece of names of one letter and of kinds as flat_kind takes them."""
+    return Piece(list(names), {name: flat_kind(words) for name, words in kinds.items()})
+
+
+def is_served(lines):
+    """Whether each of some lists of cells contains a pair of disjoint pairs, by trying all pairs."""
+
+    def fits(rest, used):
+        open_lines = [line for line in rest if not any(set(pair) <= set(line) for pair in used)]
+        if not open_lines:
+            return True
+        taken = {cell for pair in used for cell in pair}
+        free = [cell for cell in open_lines[0] if cell not in taken]
+        return any(fits(open_lines[1:], used + [pair]) for pair in itertools.combinations(free, 2))
+
+    return fits(list(lines), [])
+
+
+def small_flat_pieces():
+    """Flat pieces with at most eight cells in a line's way: some with a right plan, of several periods, and some without."""
+    return [Piece(["p"]), Piece(list("abcdefgh")), flat_piece("a", k="0a 1a"), flat_piece("a", k="0a 1a 2a"),
+            flat_piece("a", k="0a 2a 3a"), flat_piece("a", k="0a 3a"), flat_piece("a", k="0a 1a 2a", l="0a 1a 3a"),
+            flat_piece("pq", r="0p 1q"), flat_piece("ab", u="0b 2a 2b 3a", v="0a 1a 2a 3a"),
+            flat_piece("ab", k="0a 0b", l="0a 0b 1a"), flat_piece("ab", u="0b 1b 2b 3b", v="0a 0b 2b 3a"),
+            flat_piece("abcd", u="0c 1a 1b", v="0a 1b 1d", w="0a 0c 0d"), flat_piece("abcdefgh", k="0a 0b", l="0a 0c"),
+            flat_piece("abcdefgh", k="0a 0b 0c", l="0a 0d 0e", m="0b 0f 0g 0h"),
+            *made_pieces(81, 12, names=1, kinds=3, reach=3, most=4, flat=True),
+            *made_pieces(82, 20, names=2, kinds=3, reach=2, most=5, flat=True),
+            *made_pieces(83, 20, names=2, kinds=4, reach=3, most=5, flat=True),
+            *made_pieces(84, 12, names=3, kinds=3, reach=1, most=4, flat=True),
+            *made_pieces(85, 12, names=4, kinds=3, reach=1, most=5, flat=True)]

@@ -23,6 +23,10 @@ INTERFACE = {
     "sizes": ["is_crowded", "crowded_sets", "square", "always_paired", "longest", "stairs", "least_strikes"],
     "settled": ["Settled", "Owned", "Crowded", "CoreOwned", "settled"],
     "plans": ["Plan"],
+    "playing": ["plan_of_choice", "pairs_in", "first_unserved", "partner_in", "led_by"],
+    "columns": ["useful_pairs", "is_state", "steps", "is_walk", "walk"],
+    "found": ["longest_served", "least_period", "plan_for", "ranks", "is_ranks", "refuses"],
+    "weights": ["weight", "line_weight", "is_halved", "halved_length", "Stand"],
 }
 
 LIBRARY = {
@@ -35,6 +39,9 @@ BUILTINS = """len range enumerate zip min max sum abs sorted reversed int str bo
     isinstance ord repr any all divmod map iter next property staticmethod classmethod super Exception ValueError
     TypeError KeyError IndexError LookupError ZeroDivisionError ArithmeticError OverflowError RuntimeError
     NotImplementedError AttributeError StopIteration NotImplemented""".split()
+
+# The interactive shell, and doctest with it, keeps the last value as _ among the builtins.
+BUILT_IN = [name for name in dir(builtins) if name != "_"]
 
 BARRED = """type typing typing_extensions enum Enum IntEnum StrEnum Flag IntFlag Generic Protocol ABC ABCMeta namedtuple
     NamedTuple TypedDict TYPE_CHECKING abstractmethod""".split()
@@ -118,7 +125,7 @@ class NamesTest(unittest.TestCase):
 
     def test_builtins(self):
         for at, node in nodes(ast.Name):
-            if hasattr(builtins, node.id):
+            if node.id in BUILT_IN:
                 self.assertIn(node.id, BUILTINS, at)
                 self.assertIsInstance(node.ctx, ast.Load, at)
 
@@ -129,7 +136,7 @@ class NamesTest(unittest.TestCase):
                 if isinstance(node, ast.ImportFrom):
                     taken.extend(alias.name for alias in node.names)
             for bound in bound_names(tree):
-                self.assertFalse(bound in taken or hasattr(builtins, bound), f"{name}: {bound}")
+                self.assertFalse(bound in taken or bound in BUILT_IN, f"{name}: {bound}")
 
     def test_barred_words(self):
         for at, node in nodes(ast.Name):

@@ -1,9 +1,9 @@
 """Answers at the cells of boxes of all sizes, read off a choice of the piece."""
 
-from twoeach.basics import is_list
 from twoeach.checks import check_cell, check_line, check_same_piece
 from twoeach.choices import is_choice
-from twoeach.errors import InvalidChoice, InvalidMarks
+from twoeach.errors import InvalidChoice
+from twoeach.marking import check_list_of_marks, mark_answer, mark_at
 from twoeach.sorting import in_order
 
 
@@ -47,21 +47,13 @@ class Answers:
 
     def led(self, box, marks):
         """What the second one marks behind each mark of the first one, a list of cells and None."""
-        if not is_list(marks):
-            raise InvalidMarks(None)
+        check_list_of_marks(marks)
         check_same_piece(self._piece, box)
         marked = {}
         out = []
         for position, cell in enumerate(marks):
-            if cell not in box or cell in marked:
-                raise InvalidMarks(position)
-            marked[cell] = True
-            answer = self(box, cell)
-            if answer is None or answer in marked:
-                out.append(None)
-            else:
-                out.append(answer)
-                marked[answer] = True
+            mark_at(box, marked, position, cell)
+            out.append(mark_answer(marked, self(box, cell)))
         return out
 
     def __call__(self, box, cell):

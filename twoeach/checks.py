@@ -2,8 +2,8 @@
 
 from twoeach.basics import is_integer, is_list
 from twoeach.errors import (
-    InvalidColumn, InvalidHeight, InvalidLines, InvalidNames, InvalidSet, InvalidSize, NotFlat, OtherPiece, UnknownCell,
-    UnknownKind, UnknownLine)
+    InvalidColumn, InvalidHeight, InvalidLength, InvalidLines, InvalidNames, InvalidSet, InvalidSize, NotFlat,
+    OtherPiece, UnknownCell, UnknownKind, UnknownLine)
 
 GREATEST_SIZE = 10 ** 30
 GREATEST_HEIGHT = 3
@@ -18,6 +18,12 @@ def check_size(value):
     """Raises InvalidSize unless a size."""
     if not is_size(value):
         raise InvalidSize(value)
+
+
+def check_length_size(value):
+    """Raises InvalidLength unless a size."""
+    if not is_size(value):
+        raise InvalidLength(value)
 
 
 def check_height(value):
