@@ -27,6 +27,10 @@ INTERFACE = {
     "columns": ["useful_pairs", "is_state", "steps", "is_walk", "walk"],
     "found": ["longest_served", "least_period", "plan_for", "ranks", "is_ranks", "refuses"],
     "weights": ["weight", "line_weight", "is_halved", "halved_length", "Stand"],
+    "small": ["spoiling", "race", "line_strategy", "spoil_strategy", "is_line_strategy", "is_spoil_strategy"],
+    "texts": ["piece_text", "read_piece"],
+    "judge": ["verdict", "is_claim", "certificate_of", "is_certificate"],
+    "games": ["Game"],
 }
 
 LIBRARY = {
@@ -174,6 +178,88 @@ class ExpressionsTest(unittest.TestCase):
                 inner = inner.elt if isinstance(inner, ast.ListComp) else inner
                 self.assertTrue(isinstance(inner, ast.Call) and isinstance(inner.func, ast.Name)
                                 and inner.func.id in plain, at)
+
+
+CHANGING = ["append", "clear", "extend", "insert", "pop", "remove", "reverse", "setdefault", "update", "add", "discard", "sort"]
+
+
+def called_names(node):
+    """The names of all functions, methods, classes and properties that a function may run."""
+    for inner in ast.walk(node):
+        if isinstance(inner, ast.Call) and isinstance(inner.func, ast.Name):
+            yield inner.func.id
+        elif isinstance(inner, ast.Attribute):
+            yield inner.attr
+
+
+def run_by_operators():
+    """All functions that an operator, a property or the like may run, found by their names; not the in-place ones."""
+    found = {}
+    for name, tree in trees():
+        for node in ast.walk(tree):
+            if isinstance(node, ast.ClassDef):
+                inits = [inner for inner in node.body if isinstance(inner, ast.FunctionDef) and inner.name == "__init__"]
+                found.setdefault(node.name, []).extend((name, inner) for inner in inits)
+            if isinstance(node, ast.FunctionDef):
+                found.setdefault(node.name, []).append((name, node))
+    left, done = [], {}
+    for name, nodes_of in found.items():
+        for file, node in nodes_of:
+            is_operator = node.name.startswith("__") and node.name not in ("__init__", "__call__", "__iadd__", "__setitem__")
+            is_property = [word for word in node.decorator_list if isinstance(word, ast.Name) and word.id == "property"]
+            if is_operator or is_property:
+                left.append((file, node))
+    while left:
+        file, node = left.pop()
+        if id(node) not in done:
+            done[id(node)] = (f"{file}:{node.lineno} {node.name}", node)
+            for name in called_names(node):
+                left.extend(found.get(name, []))
+    return list(done.values())
+
+
+def made_here(node):
+    """The local names to which a function assigns lists or dicts that it makes itself."""
+    made = []
+    for inner in ast.walk(node):
+        if isinstance(inner, ast.Assign) and isinstance(inner.value, (ast.List, ast.Dict, ast.ListComp)):
+            made.extend(target.id for target in inner.targets if isinstance(target, ast.Name))
+    return made
+
+
+class OperatorsTest(unittest.TestCase):
+
+    def test_operators_and_properties_change_nothing(self):
+        seen = [at for at, _ in run_by_operators()]
+        self.assertGreater(len(seen), 50)
+        for at, node in run_by_operators():
+            made = made_here(node)
+            for inner in ast.walk(node):
+                # A game has += of its own, so there is none of any kind (L5 Operators).
+                self.assertNotIsInstance(inner, (ast.AugAssign, ast.Delete), at)
+                if isinstance(inner, ast.Call) and isinstance(inner.func, ast.Attribute) and inner.func.attr in CHANGING:
+                    self.assertTrue(isinstance(inner.func.value, ast.Name) and inner.func.value.id in made, at)
+                if isinstance(inner, (ast.Subscript, ast.Attribute)) and isinstance(inner.ctx, ast.Store):
+                    is_own = isinstance(inner.value, ast.Name) and inner.value.id in made
+                    is_new = node.name == "__init__" and isinstance(inner, ast.Attribute)
+                    self.assertTrue(is_own or is_new, at)
+
+    def test_classes_with_items_are_not_iterated_over(self):
+        for name, tree in trees():
+            for node in ast.walk(tree):
+                if isinstance(node, ast.ClassDef):
+                    methods = [inner.name for inner in node.body if isinstance(inner, ast.FunctionDef)]
+                    self.assertTrue("__getitem__" not in methods or "__iter__" in methods, f"{name} {node.name}")
+
+    def test_properties_have_names_of_their_own(self):
+        methods, properties = [], []
+        for at, node in nodes(ast.ClassDef):
+            for inner in node.body:
+                if isinstance(inner, ast.FunctionDef):
+                    words = [ast.unparse(word) for word in inner.decorator_list]
+                    is_property = [word for word in words if word == "property" or word.endswith(".setter")]
+                    (properties if is_property else methods).append(inner.name)
+        self.assertEqual([name for name in properties if name in methods], [])
 
 
 if __name__ == "__main__":

@@ -17,8 +17,13 @@ def merged(one, other):
     while at < len(one) and beside < len(other):
         if other[beside] < one[at]:
             out.append(other[beside])
-            beside += 1
+            beside = beside + 1
         else:
             out.append(one[at])
-            at += 1
+            at = at + 1
     return out + list(one[at:]) + list(other[beside:])
+
+
+def is_ascending(rows):
+    """Whether each of some values is less than the next one."""
+    return all([rows[at] < rows[at + 1] for at in range(len(rows) - 1)])

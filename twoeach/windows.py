@@ -24,10 +24,20 @@ def line_bits(places):
     return sum([pair_bit(one, other) for at, one in enumerate(places) for other in places[at + 1:]])
 
 
+def is_narrow(piece):
+    """Whether a piece has no more cells in a line's way than the limit."""
+    return len(piece.names()) * (piece.reach[0] + 1) <= MOST_PLACES
+
+
+def is_within_window(piece):
+    """Whether a piece is flat, and within the limit."""
+    return piece.is_flat and is_narrow(piece)
+
+
 def check_window(piece):
     """Raises NotFlat, or TooMany if the piece has too many cells in a line's way."""
     check_flat(piece)
-    if len(piece.names()) * (piece.reach[0] + 1) > MOST_PLACES:
+    if not is_narrow(piece):
         raise TooMany("cells", MOST_PLACES)
 
 
