@@ -125,6 +125,17 @@ class NumbersTest(Case):
                 self.assertIs(cell in box, True)
                 self.same(box.lines_at(cell), [line for line in lines if cell in lines[line]])
 
+    def test_the_cells_of_all_lines(self):
+        for piece in [PIECE, WIDE, *made_pieces(171, 15, names=3, kinds=4, reach=3, most=6)]:
+            for wide, tall in ((1, 1), (4, 2), (2, 5), (1, 7), (6, 1), (5, 4)):
+                box = Box(piece, wide, tall)
+                if box.lines <= 200:
+                    self.same(box.all_lines(), [box[number] for number in range(box.lines)])
+                    self.same(box.cells_of_lines(), {line: box.cells_of(line) for line in box.all_lines()})
+                    cells = box.all_cells()
+                    self.same({line: [cells[number] for number in numbers] for line, numbers in box.numbers_of_lines().items()},
+                              box.cells_of_lines())
+
     def test_common_cells(self):
         for box in (Box(PIECE, 3, 3), Box(WIDE, 5, 3), Box(PIECES[-1], 4, 4), Box(PIECES[-2], 4, 4)):
             lines = plain_lines(box)

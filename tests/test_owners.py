@@ -1,5 +1,6 @@
 import inspect
 import itertools
+import time
 import unittest
 
 from helpers import ODD, Case, made_pieces, row, subsets
@@ -101,6 +102,87 @@ class PairedTest(Case):
             for wide, tall in itertools.product((1, 2, 3), repeat=2):
                 if is_paired(Box(piece, wide + 1, tall)) or is_paired(Box(piece, wide, tall + 1)):
                     self.assertIs(is_paired(Box(piece, wide, tall)), True)
+
+
+def great_boxes():
+    """Boxes of nearly 200 lines; of the first four the greatest lacks are 199, 198, 0 and 197."""
+    twice = Kind((0, 0, "a"), (1, 0, "a"), (0, 0, "b"), (1, 0, "b"))
+    boxes = [Box(PAIR, 201), Box(Piece(["a", "b"], {"k": twice, "l": row("b", "b")}), 101), Box(Piece(["a", "b"], {"k": twice}), 201),
+             Box(Piece(["a", "b"], {"k": row("a", "a", "a", "a")}), 203)]
+    for piece in [PQ, LONG, *made_pieces(161, 10, names=2, kinds=3, reach=2, most=6), *made_pieces(162, 15, names=4, kinds=4, reach=1, most=5),
+                  *made_pieces(163, 15, names=5, kinds=3, reach=2, most=6)]:
+        for tall in (1, 2, 9):
+            wide = max(wide for wide in range(1, 150) if Box(piece, wide, tall).lines <= 200)
+            boxes.append(Box(piece, wide, tall))
+    return boxes
+
+
+def plain_matching(box):
+    """A dict from cells to lines that have them, at most two for each, as many as there can be: by one search after another."""
+    had = {}
+
+    def get(line, tried):
+        for cell in box.cells_of(line):
+            if cell not in tried:
+                tried.add(cell)
+                if cell not in had or get(had[cell], tried):
+                    had[cell] = line
+                    return True
+        return False
+
+    for line in box.all_lines() * 2:
+        get(line, set())
+    return had
+
+
+def plain_lots(box, had):
+    """The least and the greatest lot: what lines without two cells lead to, and what leads to no cell that no line has."""
+    lines = box.all_lines()
+    least = {line for line in lines if list(had.values()).count(line) < 2}
+    greatest = set(lines)
+    before = None
+    while before != (len(least), len(greatest)):
+        before = len(least), len(greatest)
+        least |= {had[cell] for line in least for cell in box.cells_of(line)}
+        greatest -= {line for line in greatest if any(had.get(cell) not in greatest for cell in box.cells_of(line))}
+    return sorted(least), sorted(greatest)
+
+
+class GreatBoxesTest(Case):
+
+    def test_greatest_lacks(self):
+        self.same([greatest_lack(box) for box in great_boxes()[:4]], [199, 198, 0, 197])
+        self.same([is_paired(box) for box in great_boxes()[:4]], [False, False, True, False])
+        self.same([box.lines for box in great_boxes()[:4]], [200] * 4)
+        self.same([len(least_lot(box)) for box in great_boxes()[:4]], [200, 200, 0, 200])
+        self.same([len(greatest_lot(box)) for box in great_boxes()[:4]], [200, 200, 0, 200])
+
+    def test_all_answers(self):
+        seen = {"paired": 0, "poor": 0, "apart": 0}
+        for box in great_boxes():
+            had = plain_matching(box)
+            least, greatest = plain_lots(box, had)
+            lack = 2 * box.lines - len(had)
+            self.same((greatest_lack(box), is_paired(box)), (lack, lack == 0))
+            self.same((least_lot(box), greatest_lot(box)), (least, greatest))
+            self.same((lot_lack(box, least), lot_lack(box, greatest)), (lack, lack))
+            found = owners(box)
+            self.assertEqual(found is None, lack > 0)
+            self.assertIs(is_owners(box, found), lack == 0)
+            self.assertTrue(found is None or list(found) == box.all_lines())
+            seen["paired" if lack == 0 else "poor"] += 1
+            seen["apart"] += least != greatest
+        self.assertGreater(min(seen.values()), 10, seen)
+
+    def test_many_calls(self):
+        # These calls take less than half a second; searching anew for each line, they took ten seconds.
+        boxes, begin = great_boxes()[:4], time.perf_counter()
+        for _ in range(40):
+            for box in boxes:
+                is_paired(box), owners(box), greatest_lack(box), least_lot(box), greatest_lot(box)
+            if time.perf_counter() - begin > 5:
+                break
+        self.assertLess(time.perf_counter() - begin, 5)
 
 
 class IsOwnersTest(Case):

@@ -120,13 +120,36 @@ class Box:
         """The sorted list of all lines, if they are not too many."""
         if self.lines > MOST_LISTED_LINES:
             raise TooMany("lines", MOST_LISTED_LINES)
-        return [self[number] for number in range(self.lines)]
+        rooms = [(columns, rows, kind) for kind, (columns, rows) in self._rooms.items() if columns > 0 and rows > 0]
+        wide = max([int(columns) for columns, _, _ in rooms], default=0)
+        tall = max([int(rows) for _, rows, _ in rooms], default=0)
+        fitting = [[(columns, kind) for columns, rows, kind in rooms if y < rows] for y in range(tall)]
+        return [(x, y, kind) for x in range(wide) for y in range(tall) for columns, kind in fitting[y] if x < columns]
+
+    def cells_of_lines(self):
+        """A dict from all lines, sorted, to the sorted lists of their cells, if the lines are not too many."""
+        entries = {kind: self._piece[kind].entries() for kind in self._rooms}
+        return {(x, y, kind): [(x + across, y + up, name) for across, up, name in entries[kind]]
+                for x, y, kind in self.all_lines()}
+
+    def numbers_of_lines(self):
+        """A dict from all lines, sorted, to the numbers of their cells among all cells; likewise."""
+        steps = {kind: [self._number_of_cell(entry) for entry in self._piece[kind].entries()] for kind in self._rooms}
+        many = len(self._piece.names())
+        return {(x, y, kind): [(x * self._tall + y) * many + step for step in steps[kind]]
+                for x, y, kind in self.all_lines()}
 
     def all_cells(self):
         """The sorted list of all cells, if they are not too many."""
         if self.cells > MOST_LISTED_CELLS:
             raise TooMany("cells", MOST_LISTED_CELLS)
         return [(x, y, name) for x in range(self._wide) for y in range(self._tall) for name in self._piece.names()]
+
+    def _number_of_cell(self, cell):
+        """The number of a cell among all cells, sorted."""
+        x, y, name = cell
+        names = self._piece.names()
+        return (x * self._tall + y) * len(names) + names.index(name)
 
     def _column_terms(self):
         """The terms of the columns, a term for each kind."""

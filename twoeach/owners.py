@@ -6,11 +6,6 @@ from twoeach.matching import greatest_lacking, is_met, lacking, least_lacking, s
 from twoeach.sorting import in_order
 
 
-def wants_of(box):
-    """A dict from all lines to their cells; raises TooMany if the lines are too many."""
-    return {line: box.cells_of(line) for line in box.all_lines()}
-
-
 def is_own(box, line, value):
     """Whether any value is a tuple of two cells of a line."""
     # True and False equal numbers, so whatever is sought among cells must be a cell itself.
@@ -27,15 +22,17 @@ def lot_of_cells(box, lines):
 
 def is_paired(box):
     """Whether a box has owners."""
-    return is_met(wants_of(box))
+    return is_met(box.numbers_of_lines())
 
 
 def owners(box):
     """Owners of a box, a dict; None if it is not paired."""
-    owned = shares(wants_of(box))
+    numbers = box.numbers_of_lines()
+    owned = shares(numbers)
     if owned is None:
         return None
-    return {line: tuple(cells) for line, cells in owned.items()}
+    cells = box.cells_of_lines()
+    return {line: tuple([cells[line][numbers[line].index(number)] for number in owned[line]]) for line in owned}
 
 
 def is_owners(box, value):
@@ -63,17 +60,17 @@ def lot_lack(box, lines):
 
 def greatest_lack(box):
     """The greatest lack of all lots of a box."""
-    return lacking(wants_of(box))
+    return lacking(box.numbers_of_lines())
 
 
 def least_lot(box):
     """The least lot with the greatest lack, a sorted list."""
-    return least_lacking(wants_of(box))
+    return least_lacking(box.numbers_of_lines())
 
 
 def greatest_lot(box):
     """The greatest lot with the greatest lack, a sorted list."""
-    return greatest_lacking(wants_of(box))
+    return greatest_lacking(box.numbers_of_lines())
 
 
 def is_different_lines(box, value):

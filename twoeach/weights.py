@@ -52,7 +52,7 @@ class Stand:
         own = {cell: True for cell in in_order(first)}
         check_marks(box, second, own)
         others = {cell: True for cell in in_order(second)}
-        self._cells = {line: box.cells_of(line) for line in box.all_lines()}
+        self._cells = box.cells_of_lines()
         self._weights = {line: weight_with(cells, own, others) for line, cells in self._cells.items()}
         self._box = box
         self._first = own
