@@ -2,6 +2,7 @@ import inspect
 import itertools
 import random
 import sys
+import time
 import unittest
 
 from helpers import FIRST, ODD, Case, made_pieces, row, subsets
@@ -35,6 +36,20 @@ SIX_HUNDRED = written("abcdefghij", u="01b 01j 30c 30d 30i 31e", v="00a 10a 10g 
                       x="00c 00h 10j 20d 20i 30c", y="00e 00i 20a 20b 20d 20h")
 ONE_MORE = written("abcdefghi", u="00f 00h 10c 10e 20c 20e", v="00e 10a 10i 30b 30c 30f", w="00b 00d 10h 10i 20a 30h",
                    x="01f 11g 20a 21a 22b 30c", y="00c 00f 00h 10d 30a 30c")
+
+
+def long_piece(reach, heights=2):
+    """A piece whose boxes of height 3 are paired for long: each of the lines in stock can spare something at both ends."""
+    def stock(name, other, reach):
+        return Kind(*[(across, 0, name) for across in range(reach + 1)], (0, 0, other), (reach, 0, other))
+
+    tall = [(0, up, "i") for up in range(heights)]
+    return Piece(list("abcdefghi"), {"ka": stock("a", "b", 3), "kb": stock("c", "d", 3), "kc": stock("e", "f", 3), "kd": stock("g", "h", reach),
+                                     "z": Kind(*tall, *[(0, 0, name) for name in "aceg"])})
+
+
+# Six names must be struck, one for each kind; four more are in no kind.
+SIX_STRUCK = Piece(["a", "b", "c", "d", "e", "f", "zzzz", "yyyy", "xxxx", "wwww"], {name * 2: row(name, name) for name in "abcdef"})
 
 
 def small_pieces():
@@ -263,6 +278,32 @@ class LengthsTest(Case):
         self.same([longest(ONE_MORE, 1), longest(ONE_MORE, 2)], [None, None])
         self.same([always_paired(ONE_MORE, height) for height in (1, 2, 3)], [True, True, False])
 
+    def test_long_boxes(self):
+        self.same(longest(long_piece(2), 3), 44)
+        self.same(stairs(long_piece(2)), [(45, 3)])
+        self.same([longest(long_piece(2), height) for height in (1, 2)], [None, None])
+        for action, *args in ((longest, 3), (stairs,)):
+            self.refused(TooMany, {"what": "lines", "limit": 600}, action, long_piece(3), *args)
+        self.same([always_paired(long_piece(3), height) for height in (1, 2, 3)], [True, True, False])
+        for reach in (1, 2):
+            for piece in (long_piece(reach), long_piece(reach).mirrored(), long_piece(reach) - "ka", long_piece(reach).struck(["b", "d"])):
+                found = longest(piece, 3)
+                self.assertEqual(found is None, always_paired(piece, 3))
+                if found is not None:
+                    self.assertTrue(plain_paired(Box(piece, found, 3)))
+                    self.assertFalse(plain_paired(Box(piece, found + 1, 3)))
+        for wide in (1, 20, 44):
+            self.assertTrue(plain_paired(Box(long_piece(3), wide, 3)))
+
+    def test_many_long_boxes(self):
+        # These calls take less than half a second; with a box made and listed for each length, they took two and a half.
+        begin = time.perf_counter()
+        for _ in range(50):
+            longest(long_piece(2), 3), stairs(long_piece(2))
+            if time.perf_counter() - begin > 10:
+                break
+        self.assertLess(time.perf_counter() - begin, 10)
+
     def test_wrong_heights(self):
         for wrong in NO_HEIGHTS:
             for piece in (PAIRED, POOR, ONE_MORE, NONE):
@@ -289,6 +330,38 @@ class StrikesTest(Case):
             self.same(least_strikes(piece), sorted(names for names in found if len(names) == fewest))
             seen[min(fewest, 2)] += 1
         self.assertGreater(min(seen.values()), 10, seen)
+
+    def test_many_struck(self):
+        self.same(least_strikes(SIX_STRUCK), [["a", "b", "c", "d", "e", "f"]])
+        self.same(least_strikes(SIX_STRUCK - "cc"), [["a", "b", "d", "e", "f"]])
+        self.same(least_strikes(SIX_STRUCK.renamed({name: name[0] + "xyz"[len(name) % 3] for name in SIX_STRUCK.names()})),
+                  [["ay", "by", "cy", "dy", "ey", "fy"]])
+
+    def test_many_pieces(self):
+        # These calls take less than half a second; with a piece made for each set of names, they took six.
+        begin = time.perf_counter()
+        for _ in range(200):
+            least_strikes(SIX_STRUCK)
+            if time.perf_counter() - begin > 4:
+                break
+        self.assertLess(time.perf_counter() - begin, 4)
+
+    def test_all_sets_of_many_names(self):
+        seen = {}
+        for piece in [*made_pieces(181, 12, names=10, kinds=6, reach=1, most=3), *made_pieces(182, 12, names=8, kinds=6, reach=1, most=2),
+                      *made_pieces(183, 12, names=7, kinds=6, reach=2, most=3), *made_pieces(184, 12, names=9, kinds=6, reach=0, most=2)]:
+            paired = {}
+            for names in subsets(piece.names()):
+                kinds = tuple(piece.struck(names).kinds())
+                if kinds not in paired:
+                    paired[kinds] = least_choice(piece.struck(names)) is not None
+                if paired[kinds]:
+                    fewest = len(names)
+                    break
+            strikes = [list(names) for names in itertools.combinations(piece.names(), fewest) if least_choice(piece.struck(names)) is not None]
+            self.same(least_strikes(piece), strikes)
+            seen[fewest] = seen.get(fewest, 0) + 1
+        self.assertGreater(len(seen), 2, seen)
 
     def test_ten_names(self):
         source = random.Random(38)

@@ -1,5 +1,6 @@
 """All steps from the state without columns on, how long walks by them are, and shortest rings of them."""
 
+from twoeach.bits import joined
 from twoeach.windows import START
 
 
@@ -45,14 +46,6 @@ def longest_walks(ahead):
             if left[other] == 0:
                 ends.append(other)
     return found
-
-
-def joined(sums):
-    """The sum of all bits that stand in some sums."""
-    out = 0
-    for bits in sums:
-        out |= bits
-    return out
 
 
 def shortest_ring(ahead, codes):

@@ -6,46 +6,50 @@ What the keys want is told by a dict from keys to lists of different things; wha
 SHARE = 2
 
 
-def hand_on(had, thing, reached, given):
-    """Changes what is had: who reached a thing takes it, and gives one thing to who reached that one, and so on."""
+def hand_on(had, thing, takers, given):
+    """Changes what is had: a taker takes a thing, and gives one of its own to the taker of that one, and so on."""
     while thing is not None:
-        had[thing] = reached[thing]
-        thing = given[reached[thing]]
+        had[thing] = takers[thing]
+        thing = given[takers[thing]]
 
 
 def get_more(wants, had, lost, start):
     """Changes what is had so that one key has one thing more and all others as many as before; whether that can be.
 
-    If it cannot be, all things that were reached are lost: they lead to no free thing, now or later.
+    If it cannot be, all keys that were reached are lost: they lead to no free thing, now or later.
     """
-    reached = {}
+    takers = {}
     given = {start: None}
     keys = [start]
     while len(keys) > 0:
         later = []
         for key in keys:
             for thing in wants[key]:
-                if thing not in reached and thing not in lost:
-                    reached[thing] = key
-                    if thing not in had:
-                        hand_on(had, thing, reached, given)
-                        return True
-                    owner = had[thing]
-                    if owner not in given:
-                        given[owner] = thing
-                        later.append(owner)
+                owner = had.get(thing)
+                if owner is None:
+                    takers[thing] = key
+                    hand_on(had, thing, takers, given)
+                    return True
+                if owner not in given and owner not in lost:
+                    takers[thing] = key
+                    given[owner] = thing
+                    later.append(owner)
         keys = later
-    for thing in reached:
-        lost[thing] = True
+    for key in given:
+        lost[key] = True
     return False
 
 
 def get_free(wants, had, key):
     """Changes what is had so that a key has as many free things as it may; how many that are."""
-    free = [thing for thing in wants[key] if thing not in had][:SHARE]
-    for thing in free:
-        had[thing] = key
-    return len(free)
+    many = 0
+    for thing in wants[key]:
+        if thing not in had:
+            had[thing] = key
+            many += 1
+            if many == SHARE:
+                return many
+    return many
 
 
 def get_share(wants, had, lost, key):

@@ -3,6 +3,7 @@
 Inside this file marked cells are told by sums of bits, a bit for each cell of the box, the least cell first.
 """
 
+from twoeach.bits import bits_in
 from twoeach.errors import TooMany
 from twoeach.sorting import in_order, is_ascending
 
@@ -10,11 +11,6 @@ MOST_CELLS = 8
 FIRST_WINS = 1
 NOBODY_WINS = 0
 SECOND_WINS = -1
-
-
-def bits_in(some):
-    """The list of the single bits of a sum."""
-    return [1 << at for at in range(MOST_CELLS) if some >> at & 1 == 1]
 
 
 def is_first_moving(first, second):
