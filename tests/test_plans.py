@@ -1,6 +1,7 @@
 import inspect
 import math
 import random
+import time
 import unittest
 
 from helpers import ODD, Case, made_pieces, row
@@ -302,6 +303,110 @@ class NewPlansTest(Case):
             self.refused(InvalidPeriod, {"value": wrong}, PLAN.times, wrong)
         self.refused(InvalidPeriod, {"value": 501}, Plan.none().times, 501)
         self.refused(InvalidPeriod, {"value": 2}, Plan.none(251).times, 2)
+
+
+def shifted_dict(plan, by):
+    """The partners of a plan shifted to the right, sorted."""
+    return {at: partner for at, partner in sorted((((x + by) % plan.period, name), partner) for (x, name), partner in plan.partners().items())}
+
+
+def mirrored_dict(plan):
+    return {at: partner for at, partner in sorted(((-x % plan.period, name), (-gap, other)) for (x, name), (gap, other) in plan.partners().items())}
+
+
+def times_dict(plan, many):
+    return {at: partner for at, partner in sorted(((x + turn * plan.period, name), partner) for (x, name), partner in plan.partners().items()
+                                                  for turn in range(many))}
+
+
+def great_plans():
+    """Plans of long periods and of many partners."""
+    source = random.Random(191)
+    pairs = {(x, name): (1 if x % 2 == 0 else -1, name) for x in range(6) for name in "abcd"}
+    names = ["a", "b", "aa", "ab", "b" * 8, "z"]
+    return [Plan(7, pairs).times(71), Plan(7, pairs).times(2), made_plan(source, 500, names, 60), made_plan(source, 499, "ab", 60),
+            made_plan(source, 250, names, 9).times(2), made_plan(source, 100, names, 60), made_plan(source, 10, names, 60), Plan.none(500),
+            Plan(500, {(499, "b"): (1, "a"), (0, "a"): (-1, "b"), (9, "a"): (1, "ab"), (10, "ab"): (-1, "a")})]
+
+
+class GreatPlansTest(Case):
+
+    def told(self, plan, period, partners):
+        """Just these partners, sorted, and equal to the plan that is made of them."""
+        self.same((plan.period, plan.partners()), (period, partners))
+        self.assertEqual(list(plan.partners()), list(partners))
+        self.assertEqual(plan, Plan(period, partners))
+        self.assertEqual(repr(plan), f"Plan({period}, {partners})")
+
+    def test_the_plan_of_many_partners(self):
+        pairs = {(x, name): (1 if x % 2 == 0 else -1, name) for x in range(6) for name in "abcd"}
+        plan = Plan(7, pairs)
+        long = plan.times(71)
+        self.same((long.period, len(long.partners())), (497, 1704))
+        self.told(long, 497, times_dict(plan, 71))
+        self.told(long >> 1, 497, shifted_dict(long, 1))
+        self.told(long.reduced(), 7, dict(sorted(pairs.items())))
+        self.assertIs(long.is_same(plan), True)
+        self.assertIs((long >> 7).is_same(plan), True)
+        self.assertIs((long >> 1).is_same(plan), False)
+
+    def test_shifted_and_mirrored(self):
+        source = random.Random(192)
+        for plan in great_plans():
+            for by in (0, 1, plan.period - 1, plan.period, FAR, -1, -FAR, *[source.randint(-999, 999) for _ in range(6)]):
+                self.told(plan >> by, plan.period, shifted_dict(plan, by))
+                self.told(plan << by, plan.period, shifted_dict(plan, -by))
+            self.told(plan.mirrored(), plan.period, mirrored_dict(plan))
+            self.told((plan >> 3).mirrored() << 5, plan.period, shifted_dict(Plan(plan.period, mirrored_dict(plan)), -8))
+            self.assertEqual(((plan >> 3) >> 4) << 7, plan)
+
+    def test_longer_and_shorter(self):
+        for plan in great_plans():
+            for many in range(1, 500 // plan.period + 1):
+                self.told(plan.times(many), plan.period * many, times_dict(plan, many))
+                self.assertEqual(plan.times(many).reduced(), plan.reduced())
+            self.refused(InvalidPeriod, {"value": 500 // plan.period + 1}, plan.times, 500 // plan.period + 1)
+            least = [step for step in range(1, plan.period + 1) if plan.period % step == 0 and shifted_dict(plan, step) == plan.partners()][0]
+            self.told(plan.reduced(), least, {at: partner for at, partner in plan.partners().items() if at[0] < least})
+
+    def test_wrong_values_are_refused_as_before(self):
+        for plan in great_plans():
+            for by in NO_COLUMNS:
+                self.refused(InvalidColumn, {"value": by}, lambda: plan >> by)
+                self.refused(InvalidColumn, {"value": by}, lambda: plan << by)
+            for many in (None, True, 0, -1, 501, "1", [1]):
+                self.refused(InvalidPeriod, {"value": many}, plan.times, many)
+        right = great_plans()[0].partners()
+        for at, partner in (((496, "z"), (0, "z")), ((0, "a"), (2, "a")), ((0, "a"), (1, "A")), ((0, "a"), None), ((497, "a"), (1, "a")),
+                            ((0, "a"), (61, "a")), ((0, "A"), (1, "a")), ((True, "z"), (1, "z")), ((3, "c"), (True, "c"))):
+            wrong = {**right, at: partner}
+            self.refused(InvalidPartners, {"value": wrong}, Plan, 497, wrong)
+        for at in list(right)[::200]:
+            wrong = {other: right[other] for other in right if other != at}
+            self.refused(InvalidPartners, {"value": wrong}, Plan, 497, wrong)
+
+    def test_what_follows_is_independent(self):
+        plan = great_plans()[1]
+        for make in (lambda: plan >> 0, lambda: plan << 0, plan.reduced, lambda: plan.times(1), lambda: plan.mirrored().mirrored()):
+            before, changed = make().partners(), make().partners()
+            changed.clear()
+            self.same(make().partners(), before)
+            self.same(plan, great_plans()[1])
+
+    def test_unserved(self):
+        for plan in great_plans():
+            for piece in flat_pieces()[::4]:
+                wanted = [(x, kind) for x in range(plan.period) for kind in piece.kinds() if not plan.serves(piece, kind, x)]
+                self.same(plan.unserved(piece), wanted)
+
+    def test_many_calls(self):
+        # These calls take a second at most; when each plan was checked and sorted anew, they took more than ten.
+        plan, begin = great_plans()[1].reduced(), time.perf_counter()
+        for by in range(200):
+            plan.times(71).mirrored(), plan.times(71) >> by, plan.times(71).reduced(), plan.times(71) << by
+            if time.perf_counter() - begin > 8:
+                break
+        self.assertLess(time.perf_counter() - begin, 8)
 
 
 class ServesTest(Case):

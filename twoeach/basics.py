@@ -1,6 +1,5 @@
 """What any value is: an INTEGER, a COUNT, a NAME, a list."""
 
-LETTERS = "abcdefghijklmnopqrstuvwxyz"
 MOST_LETTERS = 8
 
 
@@ -18,7 +17,7 @@ def is_name(value):
     """Whether any value is a string of one to eight letters from a to z."""
     if not isinstance(value, str) or len(value) < 1 or len(value) > MOST_LETTERS:
         return False
-    return all([letter in LETTERS for letter in value])
+    return value.isascii() and value.isalpha() and value.islower()
 
 
 def is_list(value):

@@ -3,7 +3,6 @@
 from twoeach.basics import is_count, is_integer, is_name
 from twoeach.checks import check_column, check_flat, check_kind
 from twoeach.errors import InvalidPartners, InvalidPeriod, UnknownName
-from twoeach.sorting import in_order
 
 FARTHEST = 60
 
@@ -44,15 +43,50 @@ def is_partners(period, value):
     return all([leads_back(period, value, at) for at in value])
 
 
+def in_sequence(partners):
+    """A copy of partners, sorted."""
+    # Written with three figures, remainders are sorted as strings, which is many times faster.
+    written = {f"{remainder:03d}{name}": (remainder, name) for remainder, name in partners}
+    return {written[text]: partners[written[text]] for text in sorted([str(text) for text in written])}
+
+
 def comes_again(partners, period, step):
     """Whether partners with a period are the same a step farther on."""
-    return all([partners.get(((remainder + step) % period, name)) == partner
-                for (remainder, name), partner in partners.items()])
+    for (remainder, name), partner in partners.items():
+        if partners.get(((remainder + step) % period, name)) != partner:
+            return False
+    return True
+
+
+def least_step(partners, period):
+    """The least period of partners with a period."""
+    step = 1
+    while period % step != 0 or not comes_again(partners, period, step):
+        step += 1
+    return step
 
 
 def has_pair(plan, places):
     """Whether two of some places are partners."""
     return any([plan(x, name) in places for x, name in places])
+
+
+def pairs_of_kinds(piece):
+    """A dict from tuples (name, difference, other name) to lists of (across, kind): the pairs of entries of kinds."""
+    pairs = {}
+    for kind in piece.kinds():
+        entries = piece[kind].entries()
+        for across, _, name in entries:
+            for farther, _, other in entries:
+                pairs.setdefault((name, farther - across, other), []).append((across, kind))
+    return pairs
+
+
+class Made:
+    """Partners that follow from those of another plan, so that they are right, and sorted already."""
+
+    def __init__(self, rows):
+        self.rows = rows
 
 
 class Plan:
@@ -63,10 +97,10 @@ class Plan:
     def __init__(self, period, partners):
         if not is_period(period):
             raise InvalidPeriod(period)
-        if not is_partners(period, partners):
+        if not isinstance(partners, Made) and not is_partners(period, partners):
             raise InvalidPartners(partners)
         self._period = period
-        self._partners = {at: partners[at] for at in in_order(list(partners))}
+        self._partners = partners.rows if isinstance(partners, Made) else in_sequence(partners)
 
     @staticmethod
     def none(period=1):
@@ -89,35 +123,43 @@ class Plan:
 
     def reduced(self):
         """The same plan with the least period."""
-        steps = [step for step in range(1, self._period + 1)
-                 if self._period % step == 0 and comes_again(self._partners, self._period, step)]
-        return Plan(steps[0], {at: self._partners[at] for at in self._partners if at[0] < steps[0]})
+        step = least_step(self._partners, self._period)
+        return Plan(step, Made({at: self._partners[at] for at in self._partners if at[0] < step}))
 
     def mirrored(self):
         """The plan with left and right exchanged."""
-        return Plan(self._period, {(-remainder % self._period, name): (-difference, other)
-                                   for (remainder, name), (difference, other) in self._partners.items()})
+        rows = [[] for _ in range(self._period)]
+        for (remainder, name), (difference, other) in self._partners.items():
+            rows[-remainder % self._period].append((name, (-difference, other)))
+        return Plan(self._period, Made({(remainder, name): partner for remainder, row in enumerate(rows)
+                                        for name, partner in row}))
 
     def times(self, many):
         """The same plan with the period so many times as great."""
         if not is_integer(many) or not is_period(self._period * many):
             raise InvalidPeriod(many)
-        return Plan(self._period * many, {(remainder + self._period * turn, name): partner
-                                          for (remainder, name), partner in self._partners.items()
-                                          for turn in range(many)})
+        turns = range(0, self._period * many, self._period)
+        return Plan(self._period * many, Made({(remainder + turn, name): partner for turn in turns
+                                               for (remainder, name), partner in self._partners.items()}))
 
     def serves(self, piece, kind, x):
         """Whether it serves a kind of a flat piece at the remainder of a column."""
         check_kind(piece, kind)
         check_column(x)
         check_flat(piece)
-        return has_pair(self, [(x + across, name) for across, up, name in piece[kind].entries()])
+        return has_pair(self, [(x + across, name) for across, _, name in piece[kind].entries()])
 
     def unserved(self, piece):
         """The sorted list of the tuples (remainder, kind) that it does not serve."""
         check_flat(piece)
-        return [(remainder, kind) for remainder in range(self._period) for kind in piece.kinds()
-                if not self.serves(piece, kind, remainder)]
+        pairs = pairs_of_kinds(piece)
+        served = {}
+        for (remainder, name), (difference, other) in self._partners.items():
+            for across, kind in pairs.get((name, difference, other), []):
+                served[(remainder - across) % self._period, kind] = True
+        kinds = piece.kinds()
+        return [(remainder, kind) for remainder in range(self._period) for kind in kinds
+                if (remainder, kind) not in served]
 
     def is_right(self, piece):
         """Whether it serves each kind at each remainder."""
@@ -129,8 +171,13 @@ class Plan:
 
     def _shifted(self, by):
         """The plan shifted to the right, or to the left if this is below 0."""
-        return Plan(self._period, {((remainder + by) % self._period, name): partner
-                                   for (remainder, name), partner in self._partners.items()})
+        shift = by % self._period
+        rows = list(self._partners.items())
+        last = [row for row in rows if row[0][0] + shift >= self._period]
+        first = [row for row in rows if row[0][0] + shift < self._period]
+        # What is shifted across the end of the period comes first.
+        return Plan(self._period, Made({((remainder + shift) % self._period, name): partner
+                                        for (remainder, name), partner in last + first}))
 
     def __call__(self, x, name):
         """The partner of a place, a tuple (column, name); None if it has none."""

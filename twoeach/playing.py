@@ -45,12 +45,10 @@ def pairs_in(plan, box, line):
 
 def first_unserved(plan, box):
     """The least line of a box that has no two cells that are partners; None if there is none."""
-    check_flat(box.piece)
     # What is not served at a column is not served a period ahead of it, and rows are alike.
-    for x in range(min(plan.period, int(box.wide))):
-        for kind in box.piece.kinds():
-            if box.is_line((x, 0, kind)) and not plan.serves(box.piece, kind, x):
-                return x, 0, kind
+    for x, kind in plan.unserved(box.piece):
+        if box.is_line((x, 0, kind)):
+            return x, 0, kind
     return None
 
 
