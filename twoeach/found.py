@@ -48,7 +48,9 @@ def plan_for(piece):
     partners = {}
     for column, code in enumerate(ring):
         pairs = window.steps_from(code)[ring[(column + 1) % len(ring)]]
-        partners.update(new_partners(window, piece.names(), column, pairs, len(ring)))
+        new = new_partners(window, piece.names(), column, pairs, len(ring))
+        for at, partner in new.items():
+            partners[at] = partner
     return Plan(len(ring), partners)
 
 
